@@ -1,0 +1,1 @@
+"""Leaprules: rules of divisors, like those of leap years."""

@@ -1,0 +1,60 @@
+"""What several tests share: primes, the rules of forms once more over sets, and objects of every kind."""
+
+from functools import reduce
+from math import lcm
+
+from leaprules.errors import TooLarge
+from leaprules.forms import Form
+
+
+def primes(many, start=2):
+    """The first primes from start on."""
+    found = []
+    number = start
+    while len(found) < many:
+        if all(number % d for d in range(2, int(number ** 0.5) + 1)):
+            found.append(number)
+        number += 1
+    return found
+
+
+def set_alone(ones, others):
+    return set(ones) ^ set(others)
+
+
+def set_common(ones, others):
+    found = set()
+    for one in ones:
+        for other in others:
+            found ^= {lcm(one, other)}
+    return found
+
+
+def set_or(ones, others):
+    return reduce(set_alone, [ones, others, set_common(ones, others)], set())
+
+
+def is_in(divisors, number):
+    """Whether a number is in the form of these divisors, from the definition."""
+    result = False
+    for divisor in divisors:
+        if number // divisor * divisor == number:
+            result = not result
+    return result
+
+
+def great_form(factors):
+    """A form whose only divisor is a product, which may be greater than Form takes."""
+    made = Form([1])
+    for factor in factors:
+        made = made.spread(factor)
+    return made
+
+
+def objects():
+    """Objects of every kind, none of them a list of divisors, a number or a form."""
+    nested = [[[[[1]]]]]
+    return [
+        None, True, False, "", "4", "[4]", (), (4,), (4, 100), {}, {"4": 4}, {"a": [4]}, TooLarge("4"),
+        [None], [True], [False], ["4"], [(4,)], [{}], [[4]], [[]], nested, [Form([4])], [TooLarge("4")],
+    ]
