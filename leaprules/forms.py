@@ -8,15 +8,32 @@ MOST_DIVISORS = 200
 DIVISOR_LIMIT = 10 ** 20
 
 
+def is_integer(thing):
+    """Whether any object is an integer; a boolean is none."""
+    return isinstance(thing, int) and not isinstance(thing, bool)
+
+
 def is_number(thing):
     """Whether any object is an integer from 1 on."""
-    return isinstance(thing, int) and not isinstance(thing, bool) and thing >= 1
+    return is_integer(thing) and thing >= 1
+
+
+def check_from(number, least):
+    """Raise InvalidNumber for anything but an integer from a least one on."""
+    if not is_integer(number) or number < least:
+        raise InvalidNumber("the argument is no integer, or it is below its range")
+
+
+def check_between(number, least, greatest):
+    """Raise InvalidNumber for anything but an integer from a least to a greatest one."""
+    check_from(number, least)
+    if number > greatest:
+        raise InvalidNumber("the argument is above its range")
 
 
 def check_number(number):
     """Raise InvalidNumber for anything but an integer from 1 on."""
-    if not is_number(number):
-        raise InvalidNumber("a number is an integer from 1 on")
+    check_from(number, 1)
 
 
 def are_divisors(thing):
@@ -26,6 +43,11 @@ def are_divisors(thing):
     if not all([is_number(divisor) and divisor < DIVISOR_LIMIT for divisor in thing]):
         return False
     return all([low < high for low, high in zip(thing, thing[1:])])
+
+
+def divided_oddly(number, divisors):
+    """Whether an odd number of the divisors divide a number."""
+    return len([divisor for divisor in divisors if number % divisor == 0]) % 2 == 1
 
 
 def odd_times(numbers):
@@ -83,7 +105,7 @@ class Form:
 
     def __call__(self, number):
         check_number(number)
-        return len([divisor for divisor in self._held if number % divisor == 0]) % 2 == 1
+        return divided_oddly(number, self._held)
 
     def __len__(self):
         return len(self._held)

@@ -1,10 +1,25 @@
 """What several tests share: primes, the rules of forms once more over sets, and objects of every kind."""
 
+import unittest
 from functools import reduce
+from itertools import combinations
 from math import lcm
 
 from leaprules.errors import TooLarge
 from leaprules.forms import Form
+
+SMALL = [list(chosen) for many in range(6) for chosen in combinations([1, 2, 3, 4, 6], many)]
+GREAT = 10 ** 20
+NO_NUMBERS = [0, -1, -4, -10 ** 20, -10 ** 59]
+NO_INTEGERS = [True, False, None, "4", [4], (4,), {}]
+
+
+class RaisingCase(unittest.TestCase):
+    def assert_raises_exactly(self, error, call, *arguments, **named):
+        with self.assertRaises(error) as caught:
+            call(*arguments, **named)
+        self.assertIs(caught.exception.__class__, error)
+        return caught.exception
 
 
 def primes(many, start=2):

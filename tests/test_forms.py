@@ -1,24 +1,13 @@
 import unittest
-from itertools import combinations
 from math import gcd
 
 from leaprules.errors import InvalidDivisors, InvalidForm, InvalidNumber, TooLarge
 from leaprules.forms import Form
-from tests.helpers import great_form, is_in, objects, primes, set_alone, set_common, set_or
-
-SMALL = [list(chosen) for many in range(6) for chosen in combinations([1, 2, 3, 4, 6], many)]
-GREAT = 10 ** 20
-NO_NUMBERS = [0, -1, -4, -10 ** 20, -10 ** 59]
+from tests.helpers import (GREAT, NO_INTEGERS, NO_NUMBERS, SMALL, RaisingCase, great_form, is_in, objects, primes,
+                           set_alone, set_common, set_or)
 
 
-class FormCase(unittest.TestCase):
-    def assert_raises_exactly(self, error, call, *arguments, **named):
-        with self.assertRaises(error) as caught:
-            call(*arguments, **named)
-        self.assertIs(caught.exception.__class__, error)
-
-
-class Making(FormCase):
+class Making(RaisingCase):
     def refuse(self, thing):
         self.assert_raises_exactly(InvalidDivisors, Form, thing)
 
@@ -89,7 +78,7 @@ class Making(FormCase):
         self.assertEqual(wrong, [3, 2])
 
 
-class Asking(FormCase):
+class Asking(RaisingCase):
     def test_odd_number_of_divisors(self):
         for divisors in SMALL + [[4, 100, 400], [7], [5, 10, 30]]:
             form = Form(divisors)
@@ -106,7 +95,7 @@ class Asking(FormCase):
 
     def test_no_numbers(self):
         for form in (Form([]), Form([1]), Form([4, 100])):
-            for number in NO_NUMBERS:
+            for number in NO_NUMBERS + NO_INTEGERS:
                 self.assert_raises_exactly(InvalidNumber, form, number)
                 self.assert_raises_exactly(InvalidNumber, form, number=number)
 
@@ -164,7 +153,7 @@ class Asking(FormCase):
         self.assertIs(form(4), True)
 
 
-class Operators(FormCase):
+class Operators(RaisingCase):
     def assert_divisors(self, form, divisors):
         self.assertIs(form.__class__, Form)
         self.assertEqual(form.divisors, sorted(divisors))
@@ -297,7 +286,7 @@ class Operators(FormCase):
             self.assertEqual(made(), made())
 
 
-class ScaledAndSpread(FormCase):
+class ScaledAndSpread(RaisingCase):
     def test_scaled_by_its_definition(self):
         for divisors in SMALL + [[4, 100, 400], [5, 10, 30], [8, 12, 18, 27]]:
             form = Form(divisors)

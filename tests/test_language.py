@@ -27,6 +27,11 @@ INTERFACE = {
     "forms": {"Form": ["__init__", "divisors", "__call__", "__len__", "__contains__", "__xor__", "__and__", "__or__",
                        "__invert__", "__eq__", "scaled", "spread"]},
     "rules": {"form_of": None, "text_in": None},
+    "compare": {"first_difference": None, "within": None, "least_outside": None},
+    "periods": {"period": None, "is_period": None, "broken": None, "shows_broken": None},
+    "answers": {"wanted": None, "has_divisor": None, "form_by": None, "HiddenForm": ["__init__", "ask", "asked"],
+                "find": None},
+    "counts": {"count_up_to": None, "nth": None, "following": None, "share": None, "chain_with": None},
 }
 
 
@@ -104,8 +109,9 @@ class Language(unittest.TestCase):
         for name, node in nodes(ast.FunctionDef, ast.ClassDef):
             for decorator in node.decorator_list:
                 self.assertEqual(ast.unparse(decorator), "property")
-        for name, node in nodes(ast.Is, ast.IsNot):
-            self.fail((name, "compared by identity"))
+        for name, node in nodes(ast.Compare):
+            if isinstance(node.ops[0], (ast.Is, ast.IsNot)):
+                self.assertIn(ast.unparse(node.comparators[0]), ("None", "True", "False"), (name, node.lineno))
 
     def test_names(self):
         for name, bound in bound_names():
@@ -118,6 +124,8 @@ class Language(unittest.TestCase):
 
     def test_methods_that_are_called(self):
         own = {node.name for _, node in nodes(ast.FunctionDef)} | {"__init__"}
+        # A form that an object keeps may be called.
+        own |= {node.attr for _, node in nodes(ast.Attribute) if isinstance(node.ctx, ast.Store)}
         for name, node in nodes(ast.Call):
             if isinstance(node.func, ast.Attribute):
                 self.assertIn(node.func.attr, METHODS | own, (name, node.lineno))
