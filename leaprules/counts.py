@@ -23,8 +23,8 @@ def nth(form, index):
     if len(form) == 0:
         raise NoNumber("a form without divisors has no number")
     many = index + 1
-    # Up to n there are about n * part / whole numbers: each weight, times a number rounded down, errs by less than
-    # itself. So the bounds do not depend on the digits of the index.
+    # Up to n there are about n * part / whole numbers. Each n // multiple errs by less than 1, and this counts as
+    # often as its weight says. With these bounds the search is short, however great the index is.
     whole = period(form)
     part = counted(weights, whole)
     error = sum([abs(weight) for weight in weights.values()])
@@ -77,8 +77,8 @@ def chain_with(numerator, denominator):
     """The divisors, each one dividing the next one, of the form with a share."""
     check_between(numerator, 0, GREATEST_PART)
     check_between(denominator, max(1, numerator), GREATEST_PART)
-    # If a goes q times into b and r remains, a / b is (1 - r / b) / q. So among the multiples of the divisors up
-    # to q, the rest of the chain has the share r / b. As r is less than a, the next quotient is greater than q.
+    # With q = b // a and r = b % a, a / b is (1 - r / b) / q: of the multiples of q, the rest of the chain takes
+    # out the share r / b. As r is less than a, the next quotient is greater than q.
     chain = []
     last = 1
     while numerator > 0:
