@@ -36,11 +36,16 @@ def check_number(number):
     check_from(number, 1)
 
 
+def is_divisor(thing):
+    """Whether any object is a number that callers may pass as a divisor."""
+    return is_number(thing) and thing < DIVISOR_LIMIT
+
+
 def are_divisors(thing):
     """Whether any object is a list that Form takes."""
     if not isinstance(thing, list) or len(thing) > MOST_DIVISORS:
         return False
-    if not all([is_number(divisor) and divisor < DIVISOR_LIMIT for divisor in thing]):
+    if not all([is_divisor(divisor) for divisor in thing]):
         return False
     return all([low < high for low, high in zip(thing, thing[1:])])
 

@@ -1,12 +1,16 @@
-"""What several tests share: primes, the rules of forms once more over sets, and objects of every kind."""
+"""What several tests share: primes, the rules of forms and lists once more from their definitions, and objects of
+every kind."""
 
 import unittest
 from functools import reduce
 from itertools import combinations
 from math import lcm
 
+from leaprules.answers import HiddenForm
 from leaprules.errors import TooLarge
 from leaprules.forms import Form
+from leaprules.lists import Exceptions, FirstMatch
+from leaprules.live import FirstBook, RuleBook
 
 SMALL = [list(chosen) for many in range(6) for chosen in combinations([1, 2, 3, 4, 6], many)]
 GREAT = 10 ** 20
@@ -58,6 +62,28 @@ def is_in(divisors, number):
     return result
 
 
+def decided(kind, entries, number):
+    """Whether a number is in a list of entries of a class, from the definition."""
+    deciding = [is_in for divisor, is_in in entries if number // divisor * divisor == number]
+    if not deciding:
+        return False
+    return deciding[0 if kind is FirstMatch else -1]
+
+
+def entries_divisors(kind, entries):
+    """The divisors of the form of a list of entries, or None if some of its entries come to more than 200."""
+    form = set()
+    for divisor, is_in in (entries[::-1] if kind is FirstMatch else entries):
+        form = set_or(form, [divisor]) if is_in else set_alone(form, set_common(form, [divisor]))
+        if len(form) > 200:
+            return None
+    return sorted(form)
+
+
+def random_entries(source, many, greatest=12):
+    return [(source.randint(1, greatest), source.random() < 0.5) for _ in range(many)]
+
+
 def great_form(factors):
     """A form whose only divisor is a product, which may be greater than Form takes."""
     made = Form([1])
@@ -69,7 +95,8 @@ def great_form(factors):
 def objects():
     """Objects of every kind, none of them a list of divisors, a number or a form."""
     nested = [[[[[1]]]]]
-    return [
+    kept = [HiddenForm([4]), Exceptions([(4, True)]), FirstMatch([]), RuleBook(), FirstBook()]
+    return kept + [[thing] for thing in kept] + [
         None, True, False, "", "4", "[4]", (), (4,), (4, 100), {}, {"4": 4}, {"a": [4]}, TooLarge("4"),
         [None], [True], [False], ["4"], [(4,)], [{}], [[4]], [[]], nested, [Form([4])], [TooLarge("4")],
     ]

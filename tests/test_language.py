@@ -32,12 +32,25 @@ INTERFACE = {
     "answers": {"wanted": None, "has_divisor": None, "form_by": None, "HiddenForm": ["__init__", "ask", "asked"],
                 "find": None},
     "counts": {"count_up_to": None, "nth": None, "following": None, "share": None, "chain_with": None},
+    "lists": {"Exceptions": ["__init__", "entries", "__call__", "__len__", "__add__", "__eq__", "form", "idle",
+                             "turned"],
+              "FirstMatch": [], "list_for": None, "longest_chain": None, "shows_bound": None},
+    "live": {"RuleBook": ["__init__", "put", "take_out", "ask", "now", "undo", "mark", "undo_to", "__len__", "twin"],
+             "FirstBook": []},
+    "texts": {"write_list": None, "read_list": None, "write_form": None, "read_form": None},
+    "session": {"session": None},
 }
 
 
 def nodes(*kinds):
     """All nodes of some kinds, with the name of their file."""
     return [(name, node) for name, tree in TREES.items() for node in ast.walk(tree) if isinstance(node, kinds)]
+
+
+def defined_names(tree):
+    """What a file defines at module level."""
+    found = {node.name for node in tree.body if hasattr(node, "name")}
+    return found | {target.id for node in tree.body if isinstance(node, ast.Assign) for target in node.targets}
 
 
 def bound_names():
@@ -93,7 +106,7 @@ class Language(unittest.TestCase):
                 continue
             package, file = node.module.split(".")
             self.assertEqual(package, "leaprules")
-            self.assertLessEqual(names, {part.name for part in TREES[file].body if hasattr(part, "name")}, name)
+            self.assertLessEqual(names, defined_names(TREES[file]), name)
             before.setdefault(name, set()).add(file)
         done = set()
         while len(done) < len(TREES):
@@ -131,6 +144,20 @@ class Language(unittest.TestCase):
                 self.assertIn(node.func.attr, METHODS | own, (name, node.lineno))
             for given in node.args:
                 self.assertNotIsInstance(given, ast.GeneratorExp, (name, node.lineno))
+
+    def test_only_own_errors_are_caught(self):
+        own = set(INTERFACE["errors"])
+        for name, node in nodes(ast.ExceptHandler):
+            self.assertIn(ast.unparse(node.type), own, (name, node.lineno))
+
+    def test_module_level_tables_are_only_read_in_place(self):
+        for name, tree in TREES.items():
+            tables = [node.targets[0].id for node in tree.body if isinstance(node, ast.Assign)
+                      and isinstance(node.value, (ast.Dict, ast.List))]
+            for node in ast.walk(tree):
+                for given in node.args if isinstance(node, ast.Call) else [getattr(node, "value", None)]:
+                    if isinstance(given, ast.Name) and not isinstance(node, (ast.Subscript, ast.Attribute)):
+                        self.assertNotIn(given.id, tables, (name, node.lineno))
 
     def test_literals(self):
         for name, node in nodes(ast.Constant):
